@@ -1,0 +1,1 @@
+"""Pricecover: sums covered by the shapes of a machine at the least price."""
