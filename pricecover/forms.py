@@ -1,7 +1,6 @@
 """Normal forms: sums of products of names and factors, and the values for which two part."""
 
-from pricecover.errors import NoValue
-from pricecover.terms import folded, how_many_below
+from pricecover.terms import folded, how_many_below, value_of
 
 
 def gathered(rows):
@@ -52,9 +51,7 @@ def form_of(words):
 def row_worth(names, factor, values):
     product = factor
     for name in names:
-        if name not in values:
-            raise NoValue(name)
-        product = product * values[name]
+        product = product * value_of(name, values)
     return product
 
 

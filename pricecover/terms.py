@@ -33,12 +33,18 @@ def how_many_below(word):
     return PARTS_BELOW.get(word, 0)
 
 
+def is_term_word(word):
+    return is_number(word) or is_name(word) or word in PARTS_BELOW
+
+
+def number_or_text(word):
+    return int(word) if is_number(word) else word
+
+
 def read_word(word):
-    if is_number(word):
-        return int(word)
-    if is_name(word) or word in PARTS_BELOW:
-        return word
-    raise NoTerm(f"{word!r} is no word of a term")
+    if not is_term_word(word):
+        raise NoTerm(f"{word!r} is no word of a term")
+    return number_or_text(word)
 
 
 def is_one_term(words):
@@ -101,12 +107,16 @@ def joined_numbers(word, parts):
     return -parts[0]
 
 
+def value_of(name, values):
+    if name not in values:
+        raise NoValue(name)
+    return values[name]
+
+
 def with_value(word, values):
     if not isinstance(word, str) or word in PARTS_BELOW:
         return word
-    if word not in values:
-        raise NoValue(word)
-    return values[word]
+    return value_of(word, values)
 
 
 def worth(words, values):

@@ -25,6 +25,8 @@ METHODS = ("append clear copy count endswith extend find get index insert isalnu
 BARRED_WORDS = ("type typing typing_extensions enum Enum IntEnum StrEnum Flag IntFlag Generic Protocol ABC ABCMeta "
                 "namedtuple NamedTuple TypedDict TYPE_CHECKING abstractmethod").split()
 BARRED_PARTS = ("dataclass", "overload", "contextmanager")
+WALKED = ("zip", "enumerate", "reversed", "range", "items", "keys", "values")
+WALKERS = ("list", "tuple", "dict", "sorted", "sum", "any", "all", "enumerate", "zip")
 BARRED_NAMES = "register mro elements open input version_info with_traceback add_note".split()
 
 
@@ -52,6 +54,28 @@ def names_of_the_top(tree):
         elif isinstance(node, ast.Assign):
             names += [target.id for target in node.targets]
     return names
+
+
+def names_brought_in(tree):
+    imports = [node for node in tree.body if isinstance(node, ast.ImportFrom)]
+    return [alias.asname or alias.name for node in imports for alias in node.names]
+
+
+def files_drawn_from(tree):
+    return [node.module.split(".")[-1] + ".py" for node in tree.body if isinstance(node, ast.ImportFrom)]
+
+
+def is_walked_at_once(node, above):
+    """Whether a call like zip(..) or d.items() stands where it is walked on the spot."""
+    if isinstance(above, (ast.For, ast.comprehension)):
+        return above.iter is node
+    if not isinstance(above, ast.Call):
+        return False
+    if isinstance(above.func, ast.Attribute):
+        return above.func.attr == "join" and isinstance(above.func.value, ast.Constant)
+    if above.func.id in ("min", "max"):
+        return above.args == [node]
+    return above.func.id in WALKERS and above.args[0] is node
 
 
 TREES = [(path.name, ast.parse(path.read_text(encoding="ascii"))) for path in FILES]
@@ -149,6 +173,39 @@ class Language(unittest.TestCase):
                         self.assertIn(node.id, bound + BUILTINS)
                     if isinstance(node, ast.Call) and isinstance(node.func, ast.Attribute):
                         self.assertIn(node.func.attr, METHODS + ["__init__"])
+
+    def test_no_parameter_and_no_local_is_called_like_what_a_file_brings_in(self):
+        for name, tree in TREES:
+            with self.subTest(file=name):
+                kept = names_brought_in(tree) + [node.name for node in tree.body if isinstance(node, ast.ClassDef)]
+                for node in ast.walk(tree):
+                    if isinstance(node, ast.Name) and isinstance(node.ctx, ast.Store):
+                        self.assertNotIn(node.id, kept)
+                    if isinstance(node, ast.arg):
+                        self.assertNotIn(node.arg, kept)
+
+    def test_no_two_files_draw_from_one_another(self):
+        drawn = {name: files_drawn_from(tree) for name, tree in TREES}
+        while drawn:
+            free = [name for name in drawn if not set(drawn[name]) & set(drawn)]
+            self.assertNotEqual(free, [], drawn)
+            drawn = {name: drawn[name] for name in drawn if name not in free}
+
+    def test_walked_at_once(self):
+        for name, tree in TREES:
+            with self.subTest(file=name):
+                for above in ast.walk(tree):
+                    for node in ast.iter_child_nodes(above):
+                        if isinstance(node, ast.Call):
+                            called = node.func.id if isinstance(node.func, ast.Name) else node.func.attr
+                            if called in WALKED:
+                                self.assertTrue(is_walked_at_once(node, above), ast.dump(node))
+
+    def test_sets_are_not_made(self):
+        for name, tree in TREES:
+            for node in ast.walk(tree):
+                if isinstance(node, ast.Name):
+                    self.assertNotIn(node.id, ("set", "frozenset"), name)
 
 
 if __name__ == "__main__":

@@ -7,30 +7,14 @@ import unittest
 
 from pricecover.errors import NoTerm, NoValue
 from pricecover.terms import below, is_name, is_number, read_term, shown_term, worth
+from trees import tree, walked
 
 KEPT = ("add", "sub", "mul", "neg", "any", "var", "put", "load", "out")
-MANY = {"add": 2, "sub": 2, "mul": 2, "neg": 1}
 SIGNS = [chr(code) for code in range(32, 127)] + ["\n"]
 
 LEFT = ("neg",) + ("add",) * 59 + tuple("abcdefghij" * 6)
 RIGHT = ("neg",) + tuple(word for name in "abcdefghij" * 6 for word in ("sub", name))[:118] + ("j",)
 NEGS = ("neg",) * 119 + ("a",)
-
-
-def tree(words, place=0):
-    """The part at a place, as (place, word, parts), and the place behind it: another way than the program's."""
-    parts = []
-    behind = place + 1
-    for _ in range(MANY.get(words[place], 0)):
-        part, behind = tree(words, behind)
-        parts.append(part)
-    return (place, words[place], parts), behind
-
-
-def walked(part):
-    yield part
-    for lower in part[2]:
-        yield from walked(lower)
 
 
 def tree_worth(part, values):
