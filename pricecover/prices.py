@@ -35,14 +35,18 @@ def fit(book, rule, words, place):
     return None
 
 
+def holes_under(shape, kinds, under):
+    # As (place, kind), by which least prices and covers are wanted.
+    hole_kinds = [word for word in shape if leaf_letter(word, kinds) == "h"]
+    return list(zip(under[0], hole_kinds))
+
+
 def fitting_rules(book, words, place):
-    # Each with its holes as (place, kind), by which the least prices are kept.
     fitting = []
     for name, kind, price, shape, deeds in book[1]:
         under = laid(shape, book[0], words, place)
         if under is not None:
-            hole_kinds = [word for word in shape if leaf_letter(word, book[0]) == "h"]
-            fitting.append((name, kind, price, list(zip(under[0], hole_kinds))))
+            fitting.append((name, kind, price, holes_under(shape, book[0], under)))
     return fitting
 
 

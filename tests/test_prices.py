@@ -5,118 +5,9 @@ import itertools
 import random
 import unittest
 
-from pricecover.books import read_book
+from plain import book_of, plain_choices, plain_fits, some_book, some_term
 from pricecover.prices import fit, is_table, prices
-from pricecover.sound import sound
 from pricecover.terms import read_term
-from trees import MANY, tree, walked
-
-BOXES = ("t1", "t2", "t3", "out")
-
-
-class NoDeeds(Exception):
-    """Six deeds over four boxes do not do for a shape."""
-
-
-def deeds_for(shape, kinds):
-    """Deeds that do a shape, so that books of any shapes can be made sound."""
-    deeds = []
-    many = {"h": 0, "n": 0, "v": 0}
-    free = list(BOXES)
-
-    def numbered(letter):
-        many[letter] += 1
-        return letter + str(many[letter])
-
-    def done(*deed):
-        for source in deed[1:]:
-            if source in BOXES:
-                free.append(source)
-        if not free:
-            raise NoDeeds
-        deeds.append((deed[0], free.pop(0)) + deed[1:])
-        return deeds[-1][1]
-
-    def gone_through(part):
-        word = part[1]
-        if word in kinds:
-            return numbered("h")
-        if word == "neg" and part[2][0][1] == "neg":
-            return gone_through(part[2][0][2][0])
-        if word in MANY:
-            return done(word, *[gone_through(lower) for lower in part[2]])
-        if word in ("any", "var"):
-            return done("put", numbered("n")) if word == "any" else done("load", numbered("v"))
-        return done("put", word)
-
-    last = gone_through(tree(shape)[0])
-    if last not in BOXES:
-        deeds += [("neg", "t1", last), ("neg", "out", "t1")]
-    else:
-        deeds[-1] = (deeds[-1][0], "out") + deeds[-1][2:]
-    if len(deeds) > 6:
-        raise NoDeeds
-    return tuple(deeds)
-
-
-def book_of(kinds, *rules):
-    """A sound book of rules told as `NAME KIND PRICE = WORD ..`."""
-    text = "\n".join(["kind " + kind for kind in kinds.split(" ")] + ["rule " + rule for rule in rules])
-    names, bare = read_book(text)
-    full = tuple(rule[:4] + (deeds_for(rule[3], names),) for rule in bare)
-    return sound((names, full))
-
-
-# Another way than the program's: over trees, and over all parts and kinds at once.
-
-def laid_upon(shape, part, kinds, found):
-    place, word, lower = part
-    if shape[1] in kinds:
-        found["holes"].append((place, shape[1]))
-        return True
-    if shape[1] == "any":
-        found["numbers"].append(word)
-        return isinstance(word, int)
-    if shape[1] == "var":
-        found["names"].append(word)
-        return isinstance(word, str) and word not in MANY
-    if shape[1] != word or isinstance(shape[1], str) != isinstance(word, str):
-        return False
-    return all(laid_upon(one, other, kinds, found) for one, other in zip(shape[2], lower))
-
-
-def plain_fits(book, words):
-    """By (rule's name, place) what lies under the rule there, where it fits."""
-    fits = {}
-    for part in walked(tree(words)[0]):
-        for rule in book[1]:
-            found = {"holes": [], "numbers": [], "names": []}
-            if laid_upon(tree(rule[3])[0], part, book[0], found):
-                fits[rule[0], part[0]] = found
-    return fits
-
-
-def plain_choices(book, words):
-    """By (place, kind) the least price and the names of all rules that have it, in the book's order."""
-    rules = {rule[0]: rule for rule in book[1]}
-    fits = plain_fits(book, words)
-    least = {}
-
-    def price(name, place):
-        parts = [least.get(hole) for hole in fits[name, place]["holes"]]
-        return None if None in parts else rules[name][2] + sum(parts)
-
-    changed = True
-    while changed:
-        changed = False
-        for name, place in fits:
-            found = price(name, place)
-            key = (place, rules[name][1])
-            if found is not None and found < least.get(key, found + 1):
-                least[key] = found
-                changed = True
-    return {key: (number, [name for name in rules if (name, key[0]) in fits and rules[name][1] == key[1]
-                           and price(name, key[0]) == number]) for key, number in least.items()}
 
 
 def plain_table(book, words):
@@ -142,37 +33,6 @@ def cheapest_by_trying(book, words, place, kind, within=()):
             if None not in parts:
                 found.append(price + sum(parts))
     return min(found, default=None)
-
-
-def some_term(source, many, leaves=("a", "b", 0, 1, 7)):
-    """A term of just so many words."""
-    if many == 1:
-        return (source.choice(leaves),)
-    if many == 2 or source.random() < 0.15:
-        return ("neg",) + some_term(source, many - 1, leaves)
-    first = source.randint(1, many - 2)
-    word = source.choice(("add", "add", "sub", "mul"))
-    return (word,) + some_term(source, first, leaves) + some_term(source, many - 1 - first, leaves)
-
-
-def some_book(source, kinds, many, dearest=6):
-    """A sound book of so many rules; rules from kind to kind and rules of like prices among them."""
-    names = tuple(source.sample(["reg", "imm", "addr", "k", "ka", "kb", "z", "any" * 2], kinds))
-    leaves = names + names + ("any", "var", 0, 1)
-    kind = names[0]
-    # With all of these every term has a cover for the first kind.
-    shapes = [("any",), ("var",), ("neg", kind), ("add", kind, kind), ("sub", kind, kind), ("mul", kind, kind)][:many]
-    rules = [(kind, shape, deeds_for(shape, names)) for shape in shapes]
-    while len(rules) < many:
-        shape = some_term(source, source.choice((1, 1, 1, 2, 3, 3, 3, 4, 5, 5, 6, 8, 11, 12)), leaves)
-        try:
-            rules.append((source.choice(names), shape, deeds_for(shape, names)))
-        except NoDeeds:
-            pass
-    source.shuffle(rules)
-    called = ["r" + one + other for one in "abcdefgh" for other in "abcde"]
-    return sound((names, tuple((name, kind, source.randint(1, dearest), shape, deeds)
-                               for name, (kind, shape, deeds) in zip(called, rules))))
 
 
 class PricesCase(unittest.TestCase):

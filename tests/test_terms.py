@@ -5,9 +5,9 @@ import random
 import string
 import unittest
 
+from plain import tree, walked
 from pricecover.errors import NoTerm, NoValue
 from pricecover.terms import below, is_name, is_number, read_term, shown_term, worth
-from trees import tree, walked
 
 KEPT = ("add", "sub", "mul", "neg", "any", "var", "put", "load", "out")
 SIGNS = [chr(code) for code in range(32, 127)] + ["\n"]
